@@ -7,6 +7,17 @@ func isId(id int) bool {
 	return id >= 0 && id < api.MaxId
 }
 
+// checkEdge answers OK, or why there is no edge of this number.
+func (g *Graph) checkEdge(id int) api.Errno {
+	if !isId(id) {
+		return api.ErrId
+	}
+	if !g.live[id] {
+		return api.ErrAbsent
+	}
+	return api.OK
+}
+
 // isVertex tells whether the graph has this vertex.
 func (g *Graph) isVertex(v int) bool {
 	return v >= 0 && v < g.vertices

@@ -3,7 +3,7 @@ package forest
 
 import "forest/api"
 
-// Graph is vertices, edges, and the forest of them.
+// Graph is vertices, edges, the forest of them, and the changes that can be taken back.
 //
 // The forest itself is not kept: the edges settle it, and a graph is so small
 // that working it out anew is cheap and can't fall behind them.
@@ -12,6 +12,8 @@ type Graph struct {
 	most     int
 	live     [api.MaxId]bool
 	edges    [api.MaxId]api.Edge
+	past     [api.MaxUndo]slot // what each change replaced, the oldest first
+	changes  int               // so many of past are in use
 }
 
 // A weight is taken apart into two halves of so many bits.
@@ -45,20 +47,15 @@ func (g *Graph) Insert(id int, u int, v int, w int) (api.Change, api.Errno) {
 	if g.isFull() {
 		return api.Change{}, api.ErrFull
 	}
-	was := g.cheapest()
-	g.live[id] = true
-	g.edges[id] = api.Edge{U: u, V: v, W: w}
-	now := g.cheapest()
-	return change(was, now), api.OK
+	g.remember(id)
+	c := g.set(slot{id: id, live: true, edge: api.Edge{U: u, V: v, W: w}})
+	return c, api.OK
 }
 
 // Edge tells an edge (P5).
 func (g *Graph) Edge(id int) (api.Edge, api.Errno) {
-	if !isId(id) {
-		return api.Edge{}, api.ErrId
-	}
-	if !g.live[id] {
-		return api.Edge{}, api.ErrAbsent
+	if e := g.checkEdge(id); e != api.OK {
+		return api.Edge{}, e
 	}
 	return g.edges[id], api.OK
 }
@@ -70,11 +67,8 @@ func (g *Graph) Live() []int {
 
 // InForest tells whether an edge is in the forest (P6).
 func (g *Graph) InForest(id int) (bool, api.Errno) {
-	if !isId(id) {
-		return false, api.ErrId
-	}
-	if !g.live[id] {
-		return false, api.ErrAbsent
+	if e := g.checkEdge(id); e != api.OK {
+		return false, e
 	}
 	in := g.cheapest()
 	return in[id], api.OK
@@ -117,10 +111,24 @@ func (g *Graph) Weight() (int, int) {
 }
 
 // Delete takes an edge out (P7).
-func (g *Graph) Delete(id int) (api.Change, api.Errno) { return api.Change{}, api.OK }
+func (g *Graph) Delete(id int) (api.Change, api.Errno) {
+	if e := g.checkEdge(id); e != api.OK {
+		return api.Change{}, e
+	}
+	g.remember(id)
+	c := g.set(slot{id: id})
+	return c, api.OK
+}
 
 // Undo takes the last change back (P8).
-func (g *Graph) Undo() (api.Change, api.Errno) { return api.Change{}, api.OK }
+func (g *Graph) Undo() (api.Change, api.Errno) {
+	if g.changes == 0 {
+		return api.Change{}, api.ErrNothing
+	}
+	last := g.recall()
+	c := g.set(last)
+	return c, api.OK
+}
 
 // Heaviest tells the heaviest edge between two vertices in the forest (P9).
 func (g *Graph) Heaviest(u int, v int) (int, api.Errno) { return 0, api.OK }

@@ -42,6 +42,19 @@ func TestP1EveryCallEnds(t *testing.T) {
 	if ids := g.Live(); !slices.Equal(ids, []int{0, 1, 29, 30, 31, 59, 60, 61, 99}) {
 		t.Errorf("P1: of the extremes came %v", ids)
 	}
+	for _, id := range extremes {
+		if c, e := g.Delete(id); e != api.OK && c != (api.Change{}) {
+			t.Fatalf("P1: Delete(%d) = %v, %d", id, c, e)
+		}
+	}
+	if ids := g.Live(); len(ids) != 0 {
+		t.Errorf("P1: of the extremes stayed %v", ids)
+	}
+	for range 3 * api.MaxUndo {
+		if c, e := g.Undo(); e != api.OK && c != (api.Change{}) {
+			t.Fatalf("P1: Undo() = %v, %d", c, e)
+		}
+	}
 }
 
 func TestP1FirstErrorCounts(t *testing.T) {
@@ -120,9 +133,18 @@ func TestP2GraphsStandAlone(t *testing.T) {
 	}
 	insert(t, h, 50, 0, 3, -9, 50, none)
 	insert(t, h, 7, 0, 3, -10, 7, 50)
+	remove(t, h, 50, none, none)
 	if now := told(g); now != was {
 		t.Errorf("P2: another graph's edges changed\n%s\nto\n%s", was, now)
 	}
+	undo(t, g, none, none)
+	if _, e := g.Edge(0); e != api.ErrAbsent {
+		t.Errorf("P2: beside another graph's changes Undo() left edge 0: %d", e)
+	}
+	undo(t, h, none, none)
+	undo(t, h, 50, 7)
+	undo(t, h, none, 50)
+	nothing(t, h)
 }
 
 func TestP2AskingChangesNothing(t *testing.T) {
@@ -133,6 +155,9 @@ func TestP2AskingChangesNothing(t *testing.T) {
 			t.Fatalf("P2: asking changed\n%s\nto\n%s", was, now)
 		}
 	}
+	undo(t, g, none, none)
+	undo(t, g, 7, 1)
+	forestIs(t, g, 3, 7)
 }
 
 func TestP3Arguments(t *testing.T) {

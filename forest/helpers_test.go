@@ -46,6 +46,48 @@ func refused(t *testing.T, g *forest.Graph, id, u, v, w int, want api.Errno) {
 	}
 }
 
+// remove takes out an edge that must go, with this change of the forest.
+func remove(t *testing.T, g *forest.Graph, id, added, removed int) {
+	t.Helper()
+	want := api.Change{Added: added, Removed: removed}
+	if c, e := g.Delete(id); c != want || e != api.OK {
+		t.Fatalf("P7: Delete(%d) = %v, %d, want %v, OK", id, c, e, want)
+	}
+}
+
+// kept tries to take out an edge where that must be refused.
+func kept(t *testing.T, g *forest.Graph, id int, want api.Errno) {
+	t.Helper()
+	was := told(g)
+	if c, e := g.Delete(id); c != (api.Change{}) || e != want {
+		t.Errorf("P7: Delete(%d) = %v, %d, want zeros, %d", id, c, e, want)
+	}
+	if now := told(g); now != was {
+		t.Errorf("P1: a refused Delete(%d) changed\n%s\nto\n%s", id, was, now)
+	}
+}
+
+// undo takes back a change that must be there, with this change of the forest.
+func undo(t *testing.T, g *forest.Graph, added, removed int) {
+	t.Helper()
+	want := api.Change{Added: added, Removed: removed}
+	if c, e := g.Undo(); c != want || e != api.OK {
+		t.Fatalf("P8: Undo() = %v, %d, want %v, OK", c, e, want)
+	}
+}
+
+// nothing demands that there is nothing to be taken back.
+func nothing(t *testing.T, g *forest.Graph) {
+	t.Helper()
+	was := told(g)
+	if c, e := g.Undo(); c != (api.Change{}) || e != api.ErrNothing {
+		t.Errorf("P8: Undo() = %v, %d, want zeros, ErrNothing", c, e)
+	}
+	if now := told(g); now != was {
+		t.Errorf("P1: a refused Undo() changed\n%s\nto\n%s", was, now)
+	}
+}
+
 // forestIs demands these edges of the forest.
 func forestIs(t *testing.T, g *forest.Graph, want ...int) {
 	t.Helper()
