@@ -323,7 +323,7 @@ func (p *past) step(t *testing.T, r *rand.Rand, g *forest.Graph, most int) {
 	}
 }
 
-func TestP7P8AgainstTheModel(t *testing.T) {
+func TestP4ToP11ChangesAgainstTheModel(t *testing.T) {
 	r := rand.New(rand.NewSource(9))
 	for range 60 {
 		vertices, most := 1+r.Intn(8), 1+r.Intn(20)

@@ -38,15 +38,46 @@ func (g *Graph) cheapest() [api.MaxId]bool {
 	return in
 }
 
-// joined tells the parts into which the graph falls.
-func (g *Graph) joined() parts {
+// joinedUpTo tells the parts that the edges make whose weight is at most w.
+func (g *Graph) joinedUpTo(w int) parts {
 	ids := g.Live()
 	p := apart()
 	for i := 0; i < len(ids); i++ {
 		e := g.edges[ids[i]]
-		p.join(e.U, e.V)
+		if e.W <= w {
+			p.join(e.U, e.V)
+		}
 	}
 	return p
+}
+
+// heaviestBetween tells the heaviest edge on the way from u to v in the forest,
+// None if there is no way, or none is needed.
+func (g *Graph) heaviestBetween(u int, v int) int {
+	if u == v {
+		return api.None
+	}
+	ids := g.lightestFirst()
+	p := apart()
+	for i := 0; i < len(ids); i++ {
+		// The way is whole as soon as its heaviest edge is there, and not
+		// before: no other edge of the forest can stand in for that one, and
+		// one outside it joins only what lighter ones have joined.
+		e := g.edges[ids[i]]
+		p.join(e.U, e.V)
+		if p.same(u, v) {
+			return ids[i]
+		}
+	}
+	return api.None
+}
+
+// wouldCome tells the edge that would come into the forest if this one went, None if none would.
+func (g *Graph) wouldCome(id int) int {
+	// It goes from a copy, for asking changes nothing.
+	without := *g
+	c := without.set(slot{id: id})
+	return c.Added
 }
 
 // change tells what is marked in one of two forests alone.

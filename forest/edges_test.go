@@ -221,6 +221,7 @@ func compare(t *testing.T, g *forest.Graph, m *model) {
 	if lo < 0 || lo >= 1<<32 || sum.Cmp(m.weight()) != 0 {
 		t.Fatalf("P6: of %v: Weight() = %d, %d, want the sum %v", m.edges, hi, lo, m.weight())
 	}
+	compareHanging(t, g, m, trees)
 }
 
 // drawWeight draws often the same few weights, and now and then any.
@@ -234,7 +235,7 @@ func drawWeight(r *rand.Rand) int {
 	return r.Intn(5) - 2
 }
 
-func TestP4ToP6AgainstTheModel(t *testing.T) {
+func TestP4ToP11InsertsAgainstTheModel(t *testing.T) {
 	r := rand.New(rand.NewSource(7))
 	for round := range 120 {
 		vertices := 1 + r.Intn(8)

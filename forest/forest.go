@@ -22,6 +22,9 @@ const (
 	halfMask = 1<<halfBits - 1
 )
 
+// greatest is a weight that no edge exceeds.
+const greatest = 1<<63 - 1
+
 // New makes a graph without edges (P3).
 func New(vertices int, most int) (*Graph, api.Errno) {
 	if vertices < 1 || vertices > api.MaxVertices {
@@ -85,7 +88,7 @@ func (g *Graph) Connected(u int, v int) (bool, api.Errno) {
 	if !g.isVertex(u) || !g.isVertex(v) {
 		return false, api.ErrVertex
 	}
-	p := g.joined()
+	p := g.joinedUpTo(greatest)
 	return p.same(u, v), api.OK
 }
 
@@ -131,16 +134,44 @@ func (g *Graph) Undo() (api.Change, api.Errno) {
 }
 
 // Heaviest tells the heaviest edge between two vertices in the forest (P9).
-func (g *Graph) Heaviest(u int, v int) (int, api.Errno) { return 0, api.OK }
+func (g *Graph) Heaviest(u int, v int) (int, api.Errno) {
+	joined, e := g.Connected(u, v)
+	if e != api.OK {
+		return 0, e
+	}
+	if !joined {
+		return 0, api.ErrApart
+	}
+	return g.heaviestBetween(u, v), api.OK
+}
 
 // Other tells which edge would come for one, or go for it (P10).
-func (g *Graph) Other(id int) (int, api.Errno) { return 0, api.OK }
+func (g *Graph) Other(id int) (int, api.Errno) {
+	in, e := g.InForest(id)
+	if e != api.OK {
+		return 0, e
+	}
+	if in {
+		return g.wouldCome(id), api.OK
+	}
+	x := g.edges[id]
+	return g.heaviestBetween(x.U, x.V), api.OK
+}
 
 // Reach tells how many vertices are joined with one by light edges (P11).
-func (g *Graph) Reach(u int, w int) (int, api.Errno) { return 0, api.OK }
+func (g *Graph) Reach(u int, w int) (int, api.Errno) {
+	if !g.isVertex(u) {
+		return 0, api.ErrVertex
+	}
+	p := g.joinedUpTo(w)
+	return p.size(u), api.OK
+}
 
 // Groups tells how many parts there are by light edges (P11).
-func (g *Graph) Groups(w int) int { return 0 }
+func (g *Graph) Groups(w int) int {
+	p := g.joinedUpTo(w)
+	return p.count(g.vertices)
+}
 
 // Text writes the graph (P12).
 func (g *Graph) Text() string { return "" }

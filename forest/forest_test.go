@@ -31,6 +31,18 @@ func TestP1EveryCallEnds(t *testing.T) {
 			if joined, e := g.Connected(id, u); e != api.OK && joined {
 				t.Fatalf("P1: Connected(%d, %d) = %v, %d", id, u, joined, e)
 			}
+			if top, e := g.Heaviest(id, u); e != api.OK && top != 0 {
+				t.Fatalf("P1: Heaviest(%d, %d) = %d, %d", id, u, top, e)
+			}
+			if n, e := g.Reach(id, u); e != api.OK && n != 0 {
+				t.Fatalf("P1: Reach(%d, %d) = %d, %d", id, u, n, e)
+			}
+		}
+		if n := g.Groups(id); n < 1 || n > 30 {
+			t.Fatalf("P1: Groups(%d) = %d", id, n)
+		}
+		if x, e := g.Other(id); e != api.OK && x != 0 {
+			t.Fatalf("P1: Other(%d) = %d, %d", id, x, e)
 		}
 		if x, e := g.Edge(id); e != api.OK && x != (api.Edge{}) {
 			t.Fatalf("P1: Edge(%d) = %v, %d", id, x, e)

@@ -3,6 +3,7 @@ package forest_test
 import (
 	"fmt"
 	"slices"
+	"strings"
 	"testing"
 
 	"forest/api"
@@ -96,22 +97,68 @@ func forestIs(t *testing.T, g *forest.Graph, want ...int) {
 	}
 }
 
-// told is all that the calls of P5 and P6 tell of a graph, at all their arguments and some beside.
+// told is all that the calls of P5, P6 and P9 to P11 tell of a graph, at all numbers of
+// edges and vertices and some beside, and at some weights.
 func told(g *forest.Graph) string {
+	var s strings.Builder
 	hi, lo := g.Weight()
-	s := fmt.Sprintln(g.Live(), g.Forest(), g.Components(), hi, lo)
+	fmt.Fprintln(&s, g.Live(), g.Forest(), g.Components(), hi, lo)
 	for id := -1; id <= api.MaxId; id++ {
 		x, e := g.Edge(id)
 		in, f := g.InForest(id)
-		s += fmt.Sprintln(id, x, e, in, f)
+		other, h := g.Other(id)
+		fmt.Fprintln(&s, id, x, e, in, f, other, h)
 	}
 	for u := -1; u <= api.MaxVertices; u++ {
 		for v := -1; v <= api.MaxVertices; v++ {
 			joined, e := g.Connected(u, v)
-			s += fmt.Sprint(joined, e, " ")
+			top, f := g.Heaviest(u, v)
+			fmt.Fprintln(&s, u, v, joined, e, top, f)
 		}
 	}
-	return s
+	for _, w := range []int{least, -8, -1, 0, 4, 5, great} {
+		fmt.Fprintln(&s, w, g.Groups(w))
+		for u := -1; u <= api.MaxVertices; u++ {
+			n, e := g.Reach(u, w)
+			fmt.Fprintln(&s, u, w, n, e)
+		}
+	}
+	return s.String()
+}
+
+// heaviest demands this edge, or this error, of Heaviest, both ways.
+func heaviest(t *testing.T, g *forest.Graph, u, v, want int, refusal api.Errno) {
+	t.Helper()
+	if id, e := g.Heaviest(u, v); id != want || e != refusal {
+		t.Errorf("P9: Heaviest(%d, %d) = %d, %d, want %d, %d", u, v, id, e, want, refusal)
+	}
+	if id, e := g.Heaviest(v, u); id != want || e != refusal {
+		t.Errorf("P9: Heaviest(%d, %d) = %d, %d, want %d, %d", v, u, id, e, want, refusal)
+	}
+}
+
+// other demands this edge, or this error, of Other.
+func other(t *testing.T, g *forest.Graph, id, want int, refusal api.Errno) {
+	t.Helper()
+	if x, e := g.Other(id); x != want || e != refusal {
+		t.Errorf("P10: Other(%d) = %d, %d, want %d, %d", id, x, e, want, refusal)
+	}
+}
+
+// reach demands this count, or this error, of Reach.
+func reach(t *testing.T, g *forest.Graph, u, w, want int, refusal api.Errno) {
+	t.Helper()
+	if n, e := g.Reach(u, w); n != want || e != refusal {
+		t.Errorf("P11: Reach(%d, %d) = %d, %d, want %d, %d", u, w, n, e, want, refusal)
+	}
+}
+
+// groups demands this count of Groups.
+func groups(t *testing.T, g *forest.Graph, w, want int) {
+	t.Helper()
+	if n := g.Groups(w); n != want {
+		t.Errorf("P11: Groups(%d) = %d, want %d", w, n, want)
+	}
 }
 
 // example is the graph of the document's examples, with five edges of five.

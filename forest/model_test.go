@@ -1,6 +1,7 @@
 package forest_test
 
 import (
+	"maps"
 	"math/big"
 	"slices"
 
@@ -43,8 +44,10 @@ func (m *model) path(u, v int, may func(id int) bool) bool {
 	return seen[v]
 }
 
+func all(int) bool { return true }
+
 func (m *model) connected(u, v int) bool {
-	return m.path(u, v, func(int) bool { return true })
+	return m.path(u, v, all)
 }
 
 func (m *model) inForest(id int) bool {
@@ -71,13 +74,13 @@ func (m *model) forest() []int {
 	return ids
 }
 
-// components counts the vertices that no vertex ahead of them is joined with.
-func (m *model) components() int {
+// pieces counts the vertices that no vertex ahead of them is joined with by the edges that may be walked.
+func (m *model) pieces(may func(id int) bool) int {
 	count := 0
 	for v := range m.vertices {
 		first := true
 		for u := range v {
-			first = first && !m.connected(u, v)
+			first = first && !m.path(u, v, may)
 		}
 		if first {
 			count++
@@ -86,12 +89,62 @@ func (m *model) components() int {
 	return count
 }
 
+func (m *model) components() int {
+	return m.pieces(all)
+}
+
 func (m *model) weight() *big.Int {
 	sum := new(big.Int)
 	for _, id := range m.forest() {
 		sum.Add(sum, big.NewInt(int64(m.edges[id].W)))
 	}
 	return sum
+}
+
+// heaviest tells the heaviest of those edges of the forest without which it does not join u and v.
+func (m *model) heaviest(u, v int, trees []int) int {
+	top := none
+	for _, id := range trees {
+		without := func(x int) bool { return x != id && slices.Contains(trees, x) }
+		if !m.path(u, v, without) && (top == none || m.lighter(top, id)) {
+			top = id
+		}
+	}
+	return top
+}
+
+// without is the model of the graph that an edge has left.
+func (m *model) without(id int) *model {
+	edges := maps.Clone(m.edges)
+	delete(edges, id)
+	return &model{vertices: m.vertices, edges: edges}
+}
+
+func (m *model) other(id int, trees []int) int {
+	if !slices.Contains(trees, id) {
+		return m.heaviest(m.edges[id].U, m.edges[id].V, trees)
+	}
+	c, _ := difference(trees, m.without(id).forest())
+	return c.Added
+}
+
+// light tells of edges whether their weight is at most w.
+func (m *model) light(w int) func(id int) bool {
+	return func(id int) bool { return m.edges[id].W <= w }
+}
+
+func (m *model) reach(u, w int) int {
+	count := 0
+	for v := range m.vertices {
+		if m.path(u, v, m.light(w)) {
+			count++
+		}
+	}
+	return count
+}
+
+func (m *model) groups(w int) int {
+	return m.pieces(m.light(w))
 }
 
 // difference tells what is in one of the lists alone; it wants at most one number each.

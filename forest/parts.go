@@ -2,7 +2,8 @@ package forest
 
 import "forest/api"
 
-// parts tells which vertices are joined: those whose part has the same number.
+// parts tells which vertices are joined: those whose part has the same number,
+// which is the number of one of them.
 type parts struct {
 	of [api.MaxVertices]int
 }
@@ -30,4 +31,28 @@ func (p *parts) join(u int, v int) {
 			p.of[x] = kept
 		}
 	}
+}
+
+// size tells how many vertices the part of u has.
+func (p *parts) size(u int) int {
+	n := 0
+	for v := 0; v < api.MaxVertices; v++ {
+		// What is past the graph's last vertex is never joined with u.
+		if p.same(u, v) {
+			n++
+		}
+	}
+	return n
+}
+
+// count tells into how many parts the first so many vertices fall.
+func (p *parts) count(vertices int) int {
+	n := 0
+	for v := 0; v < vertices; v++ {
+		// Of each part, one vertex alone has the part's number.
+		if p.of[v] == v {
+			n++
+		}
+	}
+	return n
 }
