@@ -272,7 +272,7 @@ func (p *past) keep() {
 }
 
 // step draws a call, makes it, and demands the answer that the model has for it.
-func (p *past) step(t *testing.T, r *rand.Rand, g *forest.Graph, most int) {
+func (p *past) step(t *testing.T, r *rand.Rand, g *forest.Graph) {
 	t.Helper()
 	id := r.Intn(api.MaxId)
 	if r.Intn(4) > 0 {
@@ -304,7 +304,7 @@ func (p *past) step(t *testing.T, r *rand.Rand, g *forest.Graph, most int) {
 		switch {
 		case live:
 			refusal = api.ErrLive
-		case len(p.edges) >= most:
+		case len(p.edges) >= p.most:
 			refusal = api.ErrFull
 		default:
 			p.keep()
@@ -323,14 +323,14 @@ func (p *past) step(t *testing.T, r *rand.Rand, g *forest.Graph, most int) {
 	}
 }
 
-func TestP4ToP11ChangesAgainstTheModel(t *testing.T) {
+func TestP4ToP12ChangesAgainstTheModel(t *testing.T) {
 	r := rand.New(rand.NewSource(9))
 	for range 60 {
 		vertices, most := 1+r.Intn(8), 1+r.Intn(20)
 		g := open(t, vertices, most)
-		p := &past{model: newModel(vertices)}
+		p := &past{model: newModel(vertices, most)}
 		for i := range 150 {
-			p.step(t, r, g, most)
+			p.step(t, r, g)
 			if i%10 == 0 {
 				compare(t, g, p.model)
 			}

@@ -18,6 +18,23 @@ func (g *Graph) checkEdge(id int) api.Errno {
 	return api.OK
 }
 
+// checkNew answers OK, or why an edge of this number and these ends can't come.
+func (g *Graph) checkNew(id int, u int, v int) api.Errno {
+	if !isId(id) {
+		return api.ErrId
+	}
+	if !g.isVertex(u) || !g.isVertex(v) {
+		return api.ErrVertex
+	}
+	if g.live[id] {
+		return api.ErrLive
+	}
+	if g.isFull() {
+		return api.ErrFull
+	}
+	return api.OK
+}
+
 // isVertex tells whether the graph has this vertex.
 func (g *Graph) isVertex(v int) bool {
 	return v >= 0 && v < g.vertices

@@ -222,6 +222,7 @@ func compare(t *testing.T, g *forest.Graph, m *model) {
 		t.Fatalf("P6: of %v: Weight() = %d, %d, want the sum %v", m.edges, hi, lo, m.weight())
 	}
 	compareHanging(t, g, m, trees)
+	textIs(t, g, m.text())
 }
 
 // drawWeight draws often the same few weights, and now and then any.
@@ -235,7 +236,7 @@ func drawWeight(r *rand.Rand) int {
 	return r.Intn(5) - 2
 }
 
-func TestP4ToP11InsertsAgainstTheModel(t *testing.T) {
+func TestP4ToP12InsertsAgainstTheModel(t *testing.T) {
 	r := rand.New(rand.NewSource(7))
 	for round := range 120 {
 		vertices := 1 + r.Intn(8)
@@ -243,7 +244,7 @@ func TestP4ToP11InsertsAgainstTheModel(t *testing.T) {
 			vertices = api.MaxVertices
 		}
 		most := 1 + r.Intn(api.MaxEdges)
-		g, m := open(t, vertices, most), newModel(vertices)
+		g, m := open(t, vertices, most), newModel(vertices, most)
 		for _, id := range r.Perm(api.MaxId)[:min(most, 25)] {
 			x := api.Edge{U: r.Intn(vertices), V: r.Intn(vertices), W: drawWeight(r)}
 			was := m.forest()

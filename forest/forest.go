@@ -1,7 +1,11 @@
 // Package forest: the cheapest forest of a graph whose edges come and go: see DOC.md.
 package forest
 
-import "forest/api"
+import (
+	"strconv"
+
+	"forest/api"
+)
 
 // Graph is vertices, edges, the forest of them, and the changes that can be taken back.
 //
@@ -38,17 +42,8 @@ func New(vertices int, most int) (*Graph, api.Errno) {
 
 // Insert puts an edge in (P4).
 func (g *Graph) Insert(id int, u int, v int, w int) (api.Change, api.Errno) {
-	if !isId(id) {
-		return api.Change{}, api.ErrId
-	}
-	if !g.isVertex(u) || !g.isVertex(v) {
-		return api.Change{}, api.ErrVertex
-	}
-	if g.live[id] {
-		return api.Change{}, api.ErrLive
-	}
-	if g.isFull() {
-		return api.Change{}, api.ErrFull
+	if e := g.checkNew(id, u, v); e != api.OK {
+		return api.Change{}, e
 	}
 	g.remember(id)
 	c := g.set(slot{id: id, live: true, edge: api.Edge{U: u, V: v, W: w}})
@@ -174,7 +169,35 @@ func (g *Graph) Groups(w int) int {
 }
 
 // Text writes the graph (P12).
-func (g *Graph) Text() string { return "" }
+func (g *Graph) Text() string {
+	text := strconv.Itoa(g.vertices) + " " + strconv.Itoa(g.most) + "\n"
+	ids := g.Live()
+	for i := 0; i < len(ids); i++ {
+		text += edgeLine(ids[i], g.edges[ids[i]])
+	}
+	return text
+}
 
 // Load reads a graph (P13).
-func Load(text string) (*Graph, api.Errno) { return nil, api.OK }
+func Load(text string) (*Graph, api.Errno) {
+	vertices, at := readNumber(text, 0)
+	most, at := readNumber(text, at)
+	g, e := New(vertices, most)
+	if e != api.OK {
+		return nil, api.ErrText
+	}
+	for at < len(text) {
+		s, next := readEdge(text, at)
+		if e := g.checkNew(s.id, s.edge.U, s.edge.V); e != api.OK {
+			return nil, api.ErrText
+		}
+		g.put(s)
+		at = next
+	}
+	// Reading alone lets much pass that Text does not write: other bytes
+	// between the numbers, noughts in front, edges that do not rise.
+	if told := g.Text(); told != text {
+		return nil, api.ErrText
+	}
+	return g, api.OK
+}

@@ -159,6 +159,28 @@ func TestP2GraphsStandAlone(t *testing.T) {
 	nothing(t, h)
 }
 
+// Graphs read from one text share nothing, and a text refused leaves nothing behind.
+func TestP2ReadGraphsStandAlone(t *testing.T) {
+	g := example(t)
+	was, text := told(g), g.Text()
+	h, k := load(t, text), load(t, text)
+	remove(t, h, 1, 7, 1)
+	remove(t, h, 3, 9, 3)
+	unreadable(t, text+"9 0 0 0\n")
+	unreadable(t, "4 5\n50 0 1 -7\n51 0 4 0\n")
+	if told(g) != was || told(k) != was || told(load(t, text)) != was {
+		t.Errorf("P2: beside a graph that was read, %q became %q, %q", text, g.Text(), k.Text())
+	}
+	nothing(t, k)
+	undo(t, g, none, none)
+	undo(t, h, 3, 9)
+	undo(t, h, 1, 7)
+	nothing(t, h)
+	if told(h) != was || told(k) != was {
+		t.Errorf("P2: beside others %q became %q, %q", text, h.Text(), k.Text())
+	}
+}
+
 func TestP2AskingChangesNothing(t *testing.T) {
 	g := example(t)
 	was := told(g)

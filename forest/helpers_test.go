@@ -97,12 +97,12 @@ func forestIs(t *testing.T, g *forest.Graph, want ...int) {
 	}
 }
 
-// told is all that the calls of P5, P6 and P9 to P11 tell of a graph, at all numbers of
+// told is all that the calls of P5, P6 and P9 to P12 tell of a graph, at all numbers of
 // edges and vertices and some beside, and at some weights.
 func told(g *forest.Graph) string {
 	var s strings.Builder
 	hi, lo := g.Weight()
-	fmt.Fprintln(&s, g.Live(), g.Forest(), g.Components(), hi, lo)
+	fmt.Fprintln(&s, g.Text(), g.Live(), g.Forest(), g.Components(), hi, lo)
 	for id := -1; id <= api.MaxId; id++ {
 		x, e := g.Edge(id)
 		in, f := g.InForest(id)
@@ -158,6 +158,33 @@ func groups(t *testing.T, g *forest.Graph, w, want int) {
 	t.Helper()
 	if n := g.Groups(w); n != want {
 		t.Errorf("P11: Groups(%d) = %d, want %d", w, n, want)
+	}
+}
+
+// textIs demands this text of a graph.
+func textIs(t *testing.T, g *forest.Graph, want string) {
+	t.Helper()
+	if s := g.Text(); s != want {
+		t.Fatalf("P12: Text() = %q, want %q", s, want)
+	}
+}
+
+// load reads a text that must be a graph's.
+func load(t *testing.T, text string) *forest.Graph {
+	t.Helper()
+	g, e := forest.Load(text)
+	if g == nil || e != api.OK {
+		t.Fatalf("P13: Load(%.90q) = %v, %d, want a graph", text, g, e)
+	}
+	textIs(t, g, text)
+	return g
+}
+
+// unreadable tries a text that is no graph's.
+func unreadable(t *testing.T, text string) {
+	t.Helper()
+	if g, e := forest.Load(text); g != nil || e != api.ErrText {
+		t.Errorf("P13: Load(%.90q) = %v, %d, want nil, ErrText", text, g, e)
 	}
 }
 

@@ -1,6 +1,7 @@
 package forest_test
 
 import (
+	"fmt"
 	"maps"
 	"math/big"
 	"slices"
@@ -11,11 +12,12 @@ import (
 // model is a graph that is asked by the document's words alone, however slowly.
 type model struct {
 	vertices int
+	most     int
 	edges    map[int]api.Edge
 }
 
-func newModel(vertices int) *model {
-	return &model{vertices: vertices, edges: map[int]api.Edge{}}
+func newModel(vertices, most int) *model {
+	return &model{vertices: vertices, most: most, edges: map[int]api.Edge{}}
 }
 
 func (m *model) lighter(a, b int) bool {
@@ -117,7 +119,7 @@ func (m *model) heaviest(u, v int, trees []int) int {
 func (m *model) without(id int) *model {
 	edges := maps.Clone(m.edges)
 	delete(edges, id)
-	return &model{vertices: m.vertices, edges: edges}
+	return &model{vertices: m.vertices, most: m.most, edges: edges}
 }
 
 func (m *model) other(id int, trees []int) int {
@@ -145,6 +147,15 @@ func (m *model) reach(u, w int) int {
 
 func (m *model) groups(w int) int {
 	return m.pieces(m.light(w))
+}
+
+func (m *model) text() string {
+	s := fmt.Sprintf("%d %d\n", m.vertices, m.most)
+	for _, id := range m.live() {
+		x := m.edges[id]
+		s += fmt.Sprintf("%d %d %d %d\n", id, x.U, x.V, x.W)
+	}
+	return s
 }
 
 // difference tells what is in one of the lists alone; it wants at most one number each.

@@ -14,11 +14,16 @@ func (g *Graph) slotOf(id int) slot {
 	return slot{id: id, live: g.live[id], edge: g.edges[id]}
 }
 
+// put makes a number stand for something else.
+func (g *Graph) put(s slot) {
+	g.live[s.id] = s.live
+	g.edges[s.id] = s.edge
+}
+
 // set makes a number stand for something else, and tells how the forest changed.
 func (g *Graph) set(s slot) api.Change {
 	was := g.cheapest()
-	g.live[s.id] = s.live
-	g.edges[s.id] = s.edge
+	g.put(s)
 	now := g.cheapest()
 	return change(was, now)
 }
